@@ -1,0 +1,1 @@
+"""Oldestbills: money laid on the oldest bill."""
