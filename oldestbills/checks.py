@@ -4,10 +4,15 @@ from oldestbills.errors import InvalidAccount
 from oldestbills.errors import InvalidBill
 from oldestbills.errors import InvalidDay
 from oldestbills.errors import InvalidEdges
+from oldestbills.errors import InvalidExchange
 from oldestbills.errors import InvalidIndex
+from oldestbills.errors import InvalidKind
+from oldestbills.errors import InvalidLaying
 from oldestbills.errors import InvalidManner
 from oldestbills.errors import InvalidPayment
+from oldestbills.errors import InvalidRough
 from oldestbills.errors import InvalidSum
+from oldestbills.errors import InvalidTariff
 
 SEQUENCES = ("days", "entered")
 CHOICES = ("oldest", "newest", "greatest", "least")
@@ -77,6 +82,92 @@ def is_payment_index(entries, value):
     return is_index(entries, value) and entries[value][0] != "bill"
 
 
+def is_older(entries, index, other):
+    """Whether the entry with this index is ahead of the other one on the line."""
+    return (entries[index][1], index) < (entries[other][1], other)
+
+
+def has_pair_form(account, row):
+    """Whether any value is a tuple of the indexes of a bill and a payment and of a sum."""
+    if type(row) != tuple or len(row) != 3:
+        return False
+    return is_bill_index(account, row[0]) and is_payment_index(account, row[1]) and is_sum(row[2])
+
+
+def fits_laying(account, value):
+    """Whether any value is a laying of the account, by whichever rule."""
+    if type(value) != list or not all([has_pair_form(account, row) for row in value]):
+        return False
+    # Rows whose pairs ascend are ascending themselves, and no pair comes twice.
+    if not is_ascending([(bill, payment) for bill, payment, much in value]):
+        return False
+    left = [sum_of(entry) for entry in account]
+    for bill, payment, much in value:
+        left[bill] = left[bill] - much
+        left[payment] = left[payment] - much
+    return all([rest >= 0 for rest in left])
+
+
+def sum_of(entry):
+    """The sum of an entry, 0 for a struck one."""
+    return 0 if entry[0] == "struck" else entry[2]
+
+
+def fits_kind(value):
+    """Whether any value is a kind of charges."""
+    if type(value) != tuple or len(value) == 0:
+        return False
+    if value[0] == "late":
+        return len(value) == 2 and is_integer(value[1]) and value[1] >= 0
+    return len(value) == 1 and (value[0] == "apart" or value[0] == "squares")
+
+
+def is_corner(value):
+    """Whether any value is a tuple of an integer and an integer from 1 on."""
+    return type(value) == tuple and len(value) == 2 and is_integer(value[0]) and is_sum(value[1])
+
+
+def fits_tariff(value):
+    """Whether any value is a tariff."""
+    if type(value) != tuple or len(value) != 2 or not is_integer(value[0]) or type(value[1]) != tuple:
+        return False
+    return all([is_corner(corner) for corner in value[1]]) and is_ascending([at for at, more in value[1]])
+
+
+def fits_exchange(plain, sums, value):
+    """Whether any value is an exchange in a laying, given as a dict of the sums of its pairs."""
+    if type(value) != tuple or len(value) != 5 or not all([is_integer(part) for part in value]):
+        return False
+    bill, payment, other_bill, other_payment, much = value
+    if (bill, payment) not in sums or (other_bill, other_payment) not in sums:
+        return False
+    if not is_older(plain, bill, other_bill) or not is_older(plain, other_payment, payment):
+        return False
+    return 1 <= much <= min(sums[(bill, payment)], sums[(other_bill, other_payment)])
+
+
+def is_rough_entry(value):
+    """Whether any value is an entry of a rough account."""
+    if type(value) != tuple or len(value) != 4:
+        return False
+    word, day, least, greatest = value
+    if word != "bill" and word != "pay":
+        return False
+    return is_integer(day) and is_sum(least) and is_integer(greatest) and least <= greatest
+
+
+def fits_rough(value):
+    """Whether any value is a rough account."""
+    return type(value) == tuple and all([is_rough_entry(entry) for entry in value])
+
+
+def fits_order(account, value):
+    """Whether any value is a sequence of the account: a tuple of all its indexes, each once."""
+    if type(value) != tuple or not all([is_integer(index) for index in value]):
+        return False
+    return sorted(value) == list(range(len(account)))
+
+
 def check_account(account):
     """InvalidAccount unless it is an account."""
     if not fits_account(account):
@@ -109,10 +200,23 @@ def check_day(day):
         raise InvalidDay("not an integer")
 
 
+def check_after(after):
+    """InvalidDay unless it is an integer from 0 on."""
+    check_day(after)
+    if after < 0:
+        raise InvalidDay("less than 0")
+
+
 def check_sum(sum_here):
     """InvalidSum unless it is an integer from 1 on."""
     if not is_sum(sum_here):
         raise InvalidSum("not an integer from 1 on")
+
+
+def check_sum_or_none(sum_here):
+    """InvalidSum unless it is an integer from 0 on."""
+    if not is_integer(sum_here) or sum_here < 0:
+        raise InvalidSum("not an integer from 0 on")
 
 
 def check_index(account, index):
@@ -140,3 +244,39 @@ def check_edges(edges):
         raise InvalidEdges("not a tuple of integers")
     if not is_ascending(edges):
         raise InvalidEdges("not ascending")
+
+
+def check_laying(account, laying):
+    """InvalidLaying unless it is a laying of the account."""
+    if not fits_laying(account, laying):
+        raise InvalidLaying("not a laying of the account")
+
+
+def check_kind(kind):
+    """InvalidKind unless it is a kind of charges."""
+    if not fits_kind(kind):
+        raise InvalidKind("not a kind of charges")
+
+
+def check_tariff(tariff):
+    """InvalidTariff unless it is a tariff."""
+    if not fits_tariff(tariff):
+        raise InvalidTariff("not a tariff")
+
+
+def check_exchange(plain, sums, exchange):
+    """InvalidExchange unless it is an exchange in the laying with these sums of its pairs."""
+    if not fits_exchange(plain, sums, exchange):
+        raise InvalidExchange("not an exchange in the laying")
+
+
+def check_rough(rough):
+    """InvalidRough unless it is a rough account."""
+    if not fits_rough(rough):
+        raise InvalidRough("not a rough account")
+
+
+def check_order(account, order):
+    """InvalidIndex unless it is a sequence of the account."""
+    if not fits_order(account, order):
+        raise InvalidIndex("not a sequence of the account")

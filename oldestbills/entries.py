@@ -23,24 +23,46 @@ def is_manner(value):
 def line(account):
     """The indexes of the entries along the line."""
     check_account(account)
+    return along(account)
+
+
+def along(account):
+    """The line of what was checked already: an account, or a rough one."""
     places = [(account[k][1], k) for k in range(len(account)) if account[k][0] != "struck"]
     return [index for day, index in sorted(places)]
 
 
 def bills_of(account):
     """The indexes of the bills along the line."""
-    return [index for index in line(account) if account[index][0] == "bill"]
+    check_account(account)
+    return bills_along(account)
+
+
+def bills_along(account):
+    """The bills of what was checked already."""
+    return [index for index in along(account) if account[index][0] == "bill"]
 
 
 def payments_of(account):
     """The indexes of the payments along the line."""
-    return [index for index in line(account) if account[index][0] != "bill"]
+    check_account(account)
+    return payments_along(account)
+
+
+def payments_along(account):
+    """The payments of what was checked already."""
+    return [index for index in along(account) if account[index][0] != "bill"]
 
 
 def as_of(account, day):
     """The account with all entries of greater days struck."""
     check_account(account)
     check_day(day)
+    return past_of(account, day)
+
+
+def past_of(account, day):
+    """What was checked already, with all entries of greater days struck."""
     return tuple([struck_behind(entry, day) for entry in account])
 
 

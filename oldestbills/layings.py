@@ -5,41 +5,28 @@ from oldestbills.checks import check_bill
 from oldestbills.checks import check_manner
 from oldestbills.checks import check_payment
 from oldestbills.checks import check_plain
-from oldestbills.checks import is_ascending
-from oldestbills.checks import is_bill_index
-from oldestbills.checks import is_payment_index
-from oldestbills.checks import is_sum
-from oldestbills.entries import bills_of
-from oldestbills.entries import line
-from oldestbills.entries import payments_of
+from oldestbills.checks import fits_laying
+from oldestbills.checks import sum_of
+from oldestbills.entries import along
+from oldestbills.entries import bills_along
+from oldestbills.entries import payments_along
 
 
 def is_laying(account, value):
     """Whether any value is a laying of the account, by whichever rule."""
     check_account(account)
-    if type(value) != list or not all([has_pair_form(account, row) for row in value]):
-        return False
-    # Rows whose pairs ascend are ascending themselves, and no pair comes twice.
-    if not is_ascending([(bill, payment) for bill, payment, much in value]):
-        return False
-    left = [sum_of(entry) for entry in account]
-    for bill, payment, much in value:
-        left[bill] = left[bill] - much
-        left[payment] = left[payment] - much
-    return all([rest >= 0 for rest in left])
-
-
-def has_pair_form(account, row):
-    """Whether any value is a tuple of the indexes of a bill and a payment and of a sum."""
-    if type(row) != tuple or len(row) != 3:
-        return False
-    return is_bill_index(account, row[0]) and is_payment_index(account, row[1]) and is_sum(row[2])
+    return fits_laying(account, value)
 
 
 def laid(account, manner):
     """The laying of the account by a manner."""
     check_account(account)
     check_manner(manner)
+    return laid_by(account, manner)
+
+
+def laid_by(account, manner):
+    """The laying of an account that was checked already."""
     pairs, left = gone_through(account, manner)
     return sorted(pairs)
 
@@ -48,8 +35,13 @@ def opens(account, manner):
     """The open sums of the bills along the line."""
     check_account(account)
     check_manner(manner)
+    return [much for bill, much in open_rows(account, manner)]
+
+
+def open_rows(account, manner):
+    """The tuples (bill, open sum) along the line of an account that was checked already."""
     pairs, left = gone_through(account, manner)
-    return [left[bill] for bill in bills_of(account)]
+    return [(bill, left[bill]) for bill in bills_along(account)]
 
 
 def waits(account, manner):
@@ -57,19 +49,19 @@ def waits(account, manner):
     check_account(account)
     check_manner(manner)
     pairs, left = gone_through(account, manner)
-    return [left[payment] for payment in payments_of(account)]
+    return [left[payment] for payment in payments_along(account)]
 
 
 def gone_through(account, manner):
     """The tuples in the sequence in which they are laid, and what is left of each entry's sum."""
     sequence, choice = manner
-    along = line(account)
-    walk = along if sequence == "days" else sorted(along)
+    places = along(account)
+    walk = places if sequence == "days" else sorted(places)
     left = [sum_of(entry) for entry in account]
     pairs = []
     met = {}
     for index in walk:
-        others = [other for other in along if other in met and left[other] > 0]
+        others = [other for other in places if other in met and left[other] > 0]
         partners = partners_of(account, index, others, left, choice)
         for other in partners:
             much = min(left[index], left[other])
@@ -79,11 +71,6 @@ def gone_through(account, manner):
                 pairs.append(pair_row(account, index, other, much))
         met[index] = True
     return pairs, left
-
-
-def sum_of(entry):
-    """The sum of an entry, 0 for a struck one."""
-    return 0 if entry[0] == "struck" else entry[2]
 
 
 def partners_of(account, index, others, left, choice):
@@ -118,24 +105,48 @@ def pair_row(account, index, other, much):
 def overlaps(plain):
     """The laying in which each pair has as its sum how much their stretches overlap."""
     check_plain(plain)
+    sums = [sum_of(entry) for entry in plain]
+    return sorted(overlapping(bills_along(plain), payments_along(plain), sums))
+
+
+def overlapping(bills, payments, sums):
+    """How much bills and payments overlap that are put one behind the other, each as long as its sum."""
     rows = []
-    for bill, bill_from, bill_to in stretches(plain, bills_of(plain)):
-        for payment, paid_from, paid_to in stretches(plain, payments_of(plain)):
-            much = min(bill_to, paid_to) - max(bill_from, paid_from)
-            if much > 0:
-                rows.append((bill, payment, much))
-    return sorted(rows)
+    ends = ends_of(bills, sums)
+    paid_ends = ends_of(payments, sums)
+    k = m = at = 0
+    while k < len(bills) and m < len(payments):
+        stop = min(ends[k], paid_ends[m])
+        if stop > at:
+            rows.append((bills[k], payments[m], stop - at))
+        at = stop
+        k = k + 1 if ends[k] == stop else k
+        m = m + 1 if paid_ends[m] == stop else m
+    return rows
 
 
-def stretches(account, indexes):
-    """The tuples (index, from, to) of entries that are put one behind the other, from 0 on."""
+def ends_of(indexes, sums):
+    """Where each of the stretches ends."""
     rows = []
     end = 0
     for index in indexes:
-        begin = end
-        end = begin + account[index][2]
-        rows.append((index, begin, end))
+        end = end + sums[index]
+        rows.append(end)
     return rows
+
+
+def laid_sums(account, laying):
+    """What is laid on each bill and of each payment, by their indexes."""
+    sums = [0 for _ in account]
+    for bill, payment, much in laying:
+        sums[bill] = sums[bill] + much
+        sums[payment] = sums[payment] + much
+    return sums
+
+
+def delay_of(account, bill, payment):
+    """The day of the payment less that of the bill."""
+    return account[payment][1] - account[bill][1]
 
 
 def payers(account, manner, bill):
@@ -143,8 +154,13 @@ def payers(account, manner, bill):
     check_account(account)
     check_manner(manner)
     check_bill(account, bill)
-    sums = {payment: much for paid, payment, much in laid(account, manner) if paid == bill}
-    return [(payment, sums[payment]) for payment in payments_of(account) if payment in sums]
+    return payers_of(account, manner, bill)
+
+
+def payers_of(account, manner, bill):
+    """The payers of a bill of an account that was checked already."""
+    sums = {payment: much for paid, payment, much in laid_by(account, manner) if paid == bill}
+    return [(payment, sums[payment]) for payment in payments_along(account) if payment in sums]
 
 
 def paid_by(account, manner, payment):
@@ -152,8 +168,8 @@ def paid_by(account, manner, payment):
     check_account(account)
     check_manner(manner)
     check_payment(account, payment)
-    sums = {bill: much for bill, payer, much in laid(account, manner) if payer == payment}
-    return [(bill, sums[bill]) for bill in bills_of(account) if bill in sums]
+    sums = {bill: much for bill, payer, much in laid_by(account, manner) if payer == payment}
+    return [(bill, sums[bill]) for bill in bills_along(account) if bill in sums]
 
 
 def moved(account, other_account, manner):
@@ -161,8 +177,8 @@ def moved(account, other_account, manner):
     check_account(account)
     check_account(other_account)
     check_manner(manner)
-    before = {(bill, payment): much for bill, payment, much in laid(account, manner)}
-    after = {(bill, payment): much for bill, payment, much in laid(other_account, manner)}
+    before = {(bill, payment): much for bill, payment, much in laid_by(account, manner)}
+    after = {(bill, payment): much for bill, payment, much in laid_by(other_account, manner)}
     pairs = sorted(set(list(before) + list(after)))
     rows = [(bill, payment, before.get((bill, payment), 0), after.get((bill, payment), 0)) for bill, payment in pairs]
     return [row for row in rows if row[2] != row[3]]

@@ -96,8 +96,11 @@ class Numbers:
 
     def below(self, bound):
         """An integer from 0 on, less than the bound."""
-        self.state = (self.state * 6364136223846793005 + 1442695040888963407) % 2 ** 64
-        return (self.state // 2 ** 33) % bound
+        number = 0
+        for _ in range(1 + (bound.bit_length() - 1) // 31):
+            self.state = (self.state * 6364136223846793005 + 1442695040888963407) % 2 ** 64
+            number = number * 2 ** 31 + self.state // 2 ** 33
+        return number % bound
 
 
 def any_account(seed, many, days=8, most=9, words=("bill", "bill", "pay", "pay", "named", "struck")):

@@ -4,10 +4,14 @@ import copy
 import inspect
 import unittest
 
+from oldestbills import charges
 from oldestbills import days
 from oldestbills import entries
 from oldestbills import errors
 from oldestbills import layings
+from oldestbills import orders
+from oldestbills import roughs
+from oldestbills import tariffs
 from tests.helpers import EXAMPLE
 from tests.helpers import MIXED
 from tests.helpers import ODD
@@ -18,8 +22,20 @@ from tests.helpers import ODD_MANNERS
 from tests.helpers import ODD_SUMS
 from tests.helpers import OLDEST
 from tests.helpers import odd_indexes
+from tests.samples import LEAST
+from tests.samples import ODD_EXCHANGES
+from tests.samples import ODD_KINDS
+from tests.samples import ODD_LAYINGS
+from tests.samples import ODD_ORDERS
+from tests.samples import ODD_ROUGHS
+from tests.samples import ODD_TARIFFS
+from tests.samples import ONE as LAYING
+from tests.samples import ROUGH
+from tests.samples import TARIFF
+from tests.samples import TWO
 
-LAYING = [(0, 2, 6), (0, 3, 4), (1, 2, 9)]
+LATE = ("late", 1)
+EXCHANGE = (0, 2, 1, 3, 4)
 
 # Each function of the interface with one call of it, by names in the order of the signature.
 CALLS = (
@@ -48,20 +64,85 @@ CALLS = (
     (days.owed_days, {"account": MIXED}),
     (days.never_more, {"account": MIXED, "other_account": EXAMPLE}),
     (days.more_day, {"account": MIXED, "other_account": EXAMPLE}),
+    (charges.cost, {"account": EXAMPLE, "laying": TWO, "kind": LATE}),
+    (charges.cheapest, {"plain": EXAMPLE, "laying": TWO}),
+    (charges.dearest, {"plain": EXAMPLE, "laying": TWO}),
+    (charges.dunned, {"account": MIXED, "manner": OLDEST, "after": 2}),
+    (charges.spread, {"plain": EXAMPLE, "laying": TWO, "kind": LATE}),
+    (tariffs.is_tariff, {"value": TARIFF}),
+    (tariffs.charge, {"tariff": TARIFF, "delay": 3}),
+    (tariffs.tariff_cost, {"account": EXAMPLE, "laying": TWO, "tariff": TARIFF}),
+    (tariffs.cost_line, {"account": EXAMPLE, "laying": TWO}),
+    (tariffs.akin, {"account": EXAMPLE, "laying": TWO, "other_laying": LAYING}),
+    (tariffs.never_dearer, {"plain": EXAMPLE, "laying": TWO, "other_laying": LAYING}),
+    (tariffs.dearer_grace, {"plain": EXAMPLE, "laying": TWO, "other_laying": LAYING}),
+    (tariffs.crossings, {"plain": EXAMPLE, "laying": TWO}),
+    (tariffs.exchanged, {"plain": EXAMPLE, "laying": TWO, "exchange": EXCHANGE}),
+    (tariffs.exchanges, {"plain": EXAMPLE, "laying": TWO}),
+    (tariffs.judge_exchanges, {"plain": EXAMPLE, "laying": TWO, "value": [EXCHANGE]}),
+    (tariffs.prices, {"plain": EXAMPLE, "laying": LAYING, "tariff": TARIFF}),
+    (tariffs.judge_prices, {"plain": EXAMPLE, "laying": LAYING, "tariff": TARIFF, "value": ([0, 1], [2, 3])}),
+    (tariffs.cheaper, {"plain": EXAMPLE, "laying": TWO, "tariff": TARIFF}),
+    (roughs.is_rough, {"value": ROUGH}),
+    (roughs.pair_range, {"rough": ROUGH, "bill": 1, "payment": 2}),
+    (roughs.sure_pairs, {"rough": ROUGH}),
+    (roughs.possible_pairs, {"rough": ROUGH}),
+    (roughs.open_range, {"rough": ROUGH, "bill": 1}),
+    (roughs.owed_range, {"rough": ROUGH, "day": 2}),
+    (roughs.with_pair, {"rough": ROUGH, "bill": 1, "payment": 2, "sum_here": 0}),
+    (roughs.sharper, {"rough": ROUGH, "bill": 1, "payment": 2, "sum_here": 3}),
+    (orders.entered_so, {"account": EXAMPLE, "order": (2, 1, 0, 3)}),
+    (orders.pairs_in, {"plain": EXAMPLE, "order": (2, 1, 0, 3)}),
+    (orders.order_range, {"plain": EXAMPLE, "bill": 0, "payment": 2}),
+    (orders.least_order, {"plain": EXAMPLE, "bill": 0, "payment": 2}),
+    (orders.greatest_order, {"plain": EXAMPLE, "bill": 0, "payment": 2}),
+    (orders.sure_in_any, {"plain": EXAMPLE}),
+    (orders.same_in_any, {"plain": (("bill", 1, 5), ("pay", 2, 3))}),
+    (orders.order_counts, {"plain": EXAMPLE}),
+    (orders.order_reason, {"plain": (("bill", 1, 5), ("pay", 2, 3))}),
+    (orders.two_orders, {"plain": EXAMPLE}),
+    (orders.parting, {"manner": OLDEST, "other_manner": ("entered", "newest")}),
 )
+
+HOMES = {
+    "entries": entries, "layings": layings, "days": days, "charges": charges, "tariffs": tariffs, "roughs": roughs,
+    "orders": orders,
+}
 
 TABLE = {
     "account": (errors.InvalidAccount, ODD_ACCOUNTS),
     "other_account": (errors.InvalidAccount, ODD_ACCOUNTS),
     "plain": (errors.InvalidAccount, ODD_ACCOUNTS + (MIXED,)),
+    "rough": (errors.InvalidRough, [value for value in ODD_ROUGHS if value != ()]),
     "manner": (errors.InvalidManner, ODD_MANNERS),
+    "other_manner": (errors.InvalidManner, ODD_MANNERS),
     "day": (errors.InvalidDay, ODD_DAYS),
+    "delay": (errors.InvalidDay, ODD_DAYS),
+    "after": (errors.InvalidDay, ODD_DAYS + (-1, -10 ** 39)),
     "sum_here": (errors.InvalidSum, ODD_SUMS),
-    "index": (errors.InvalidIndex, odd_indexes(MIXED, ("bill", "pay", "named"))),
-    "bill": (errors.InvalidBill, odd_indexes(MIXED, ("bill",))),
-    "payment": (errors.InvalidPayment, odd_indexes(MIXED, ("pay", "named"))),
     "edges": (errors.InvalidEdges, ODD_EDGES),
+    "laying": (errors.InvalidLaying, ODD_LAYINGS),
+    "other_laying": (errors.InvalidLaying, ODD_LAYINGS),
+    "kind": (errors.InvalidKind, ODD_KINDS),
+    "tariff": (errors.InvalidTariff, ODD_TARIFFS),
+    "exchange": (errors.InvalidExchange, ODD_EXCHANGES),
+    "order": (errors.InvalidIndex, ODD_ORDERS),
 }
+WORDS = {
+    "index": (errors.InvalidIndex, ("bill", "pay", "named")),
+    "bill": (errors.InvalidBill, ("bill",)),
+    "payment": (errors.InvalidPayment, ("pay", "named")),
+}
+
+
+def wrong_for(call, told, name):
+    """The error of the table for a parameter of a call, and the values that it is raised for."""
+    if name in WORDS:
+        error, words = WORDS[name]
+        return error, odd_indexes(list(told.values())[0], words)
+    error, wrong = TABLE[name]
+    # In with_pair the sum may be 0.
+    return error, [value for value in wrong if call != roughs.with_pair or type(value) is not int or value != 0]
 
 
 def spoiled(value):
@@ -74,6 +155,17 @@ def spoiled(value):
 
 
 class ConventionsTest(unittest.TestCase):
+    def test_no_function_is_left_out(self):
+        listed = (
+            "is_account is_manner line bills_of payments_of as_of struck changed joined is_laying laid opens waits overlaps"
+            " payers paid_by moved owed waiting statement paid_day aged owed_days never_more more_day cost cheapest dearest"
+            " dunned spread is_tariff charge tariff_cost cost_line akin never_dearer dearer_grace crossings exchanged"
+            " exchanges judge_exchanges prices judge_prices cheaper is_rough pair_range sure_pairs possible_pairs open_range"
+            " owed_range with_pair sharper entered_so pairs_in order_range least_order greatest_order sure_in_any same_in_any"
+            " order_counts order_reason two_orders parting"
+        )
+        self.assertEqual([call.__name__ for call, _ in CALLS], listed.split())
+
     def test_by_position_and_by_name(self):
         for call, told in CALLS:
             with self.subTest(call.__name__):
@@ -86,7 +178,7 @@ class ConventionsTest(unittest.TestCase):
     def test_each_function_is_defined_where_the_interface_lists_it(self):
         for call, _ in CALLS:
             self.assertTrue(inspect.isfunction(call))
-            home = {"entries": entries, "layings": layings, "days": days}[call.__module__.split(".")[1]]
+            home = HOMES[call.__module__.split(".")[1]]
             self.assertIs(getattr(home, call.__name__), call)
 
     def test_arguments_are_as_before(self):
@@ -99,6 +191,10 @@ class ConventionsTest(unittest.TestCase):
         layings.is_laying(EXAMPLE, value)
         entries.is_account(value)
         entries.is_manner(value)
+        tariffs.is_tariff(value)
+        tariffs.judge_exchanges(EXAMPLE, TWO, value)
+        tariffs.judge_prices(EXAMPLE, TWO, TARIFF, (value, value))
+        roughs.is_rough(value)
         self.assertEqual(value, before)
 
     def test_lists_are_new(self):
@@ -110,9 +206,16 @@ class ConventionsTest(unittest.TestCase):
                 self.assertEqual(call(**told), kept)
 
     def test_answers_are_lists_or_tuples_as_the_interface_says(self):
-        tuples = ("as_of", "struck", "changed", "joined")
-        numbers = ("owed", "waiting", "paid_day", "more_day")
-        told_so = ("is_account", "is_manner", "is_laying", "never_more")
+        tuples = (
+            "as_of", "struck", "changed", "joined", "spread", "prices", "pair_range", "open_range", "owed_range",
+            "with_pair", "entered_so", "order_range", "least_order", "greatest_order", "order_reason", "two_orders",
+            "parting",
+        )
+        numbers = ("owed", "waiting", "paid_day", "more_day", "cost", "charge", "tariff_cost", "dearer_grace")
+        told_so = (
+            "is_account", "is_manner", "is_laying", "never_more", "is_tariff", "akin", "never_dearer", "judge_exchanges",
+            "judge_prices", "is_rough", "order_counts",
+        )
         for call, told in CALLS:
             kinds = [(tuple, tuples), (int, numbers), (bool, told_so)]
             kind = ([kind for kind, names in kinds if call.__name__ in names] + [list])[0]
@@ -123,7 +226,7 @@ class ConventionsTest(unittest.TestCase):
             for name in told:
                 if name == "value":
                     continue
-                error, wrong = TABLE[name]
+                error, wrong = wrong_for(call, told, name)
                 for value in wrong:
                     with self.subTest(call.__name__, parameter=name, value=value):
                         with self.assertRaises(errors.BillError) as caught:
@@ -135,28 +238,69 @@ class ConventionsTest(unittest.TestCase):
             names = [name for name in told if name != "value"]
             pairs = [(one, two) for at, one in enumerate(names) for two in names[at + 1:]]
             for one, two in pairs:
-                for value in (None, TABLE[one][1][-1]):
-                    wrong = {**told, one: value, two: TABLE[two][1][-1]}
+                error, wrong = wrong_for(call, told, one)
+                for value in (None, wrong[-1]):
+                    both = {**told, one: value, two: wrong_for(call, told, two)[1][-1]}
                     with self.subTest(call.__name__, wrong=(one, two)):
                         with self.assertRaises(errors.BillError) as caught:
-                            call(**wrong)
-                        self.assertIs(type(caught.exception), TABLE[one][0])
+                            call(**both)
+                        self.assertIs(type(caught.exception), error)
+
+    def test_of_wrong_arguments_all_told_the_first_one_is_told(self):
+        for call, told in CALLS:
+            names = [name for name in told if name != "value"]
+            for at, name in enumerate(names):
+                wrong = {other: None for other in told if other == "value" or other in names[at:]}
+                with self.assertRaises(errors.BillError) as caught:
+                    call(**{**told, **wrong})
+                self.assertIs(type(caught.exception), wrong_for(call, told, name)[0])
+
+    def test_not_akin_comes_behind_the_errors_of_both_layings(self):
+        for call in (tariffs.never_dearer, tariffs.dearer_grace):
+            self.assertRaises(errors.NotAkin, call, EXAMPLE, LAYING, LEAST)
+            for wrong in ODD_LAYINGS:
+                self.assertRaises(errors.InvalidLaying, call, EXAMPLE, LEAST, wrong)
+                self.assertRaises(errors.InvalidLaying, call, EXAMPLE, wrong, LEAST)
+
+    def test_by_entered_comes_at_the_place_of_the_manner(self):
+        self.assertRaises(errors.InvalidManner, days.paid_day, EXAMPLE, ("entered", "oldest"), None)
+        self.assertRaises(errors.InvalidManner, charges.dunned, EXAMPLE, ("entered", "oldest"), None)
+        self.assertRaises(errors.InvalidAccount, charges.dunned, None, ("entered", "oldest"), None)
 
     def test_a_wrong_account_is_told_ahead_of_any_value(self):
         for value in ODD + (LAYING,):
             self.assertRaises(errors.InvalidAccount, layings.is_laying, list(EXAMPLE), value)
 
     def test_what_tells_whether_is_true_or_false_for_any_value(self):
-        for value in ODD + ODD_ACCOUNTS + ODD_MANNERS:
+        odd = [ODD_ACCOUNTS, ODD_MANNERS, ODD_LAYINGS, ODD_KINDS, ODD_TARIFFS, ODD_EXCHANGES, ODD_ORDERS, ODD_ROUGHS]
+        for value in [value for values in odd for value in values]:
             self.assertIs(type(entries.is_account(value)), bool)
             self.assertIs(type(entries.is_manner(value)), bool)
             self.assertIs(type(layings.is_laying(EXAMPLE, value)), bool)
+            self.assertIs(type(tariffs.is_tariff(value)), bool)
+            self.assertIs(type(tariffs.judge_exchanges(EXAMPLE, TWO, value)), bool)
+            self.assertIs(type(tariffs.judge_prices(EXAMPLE, TWO, TARIFF, value)), bool)
+            self.assertIs(type(roughs.is_rough(value)), bool)
+
+    def test_a_wrong_account_or_laying_is_told_ahead_of_any_value_that_is_judged(self):
+        for value in (None, [EXCHANGE], ([0, 1], [2, 3])):
+            self.assertRaises(errors.InvalidAccount, tariffs.judge_exchanges, MIXED, None, value)
+            self.assertRaises(errors.InvalidLaying, tariffs.judge_exchanges, EXAMPLE, None, value)
+            self.assertRaises(errors.InvalidLaying, tariffs.judge_prices, EXAMPLE, None, None, value)
+            self.assertRaises(errors.InvalidTariff, tariffs.judge_prices, EXAMPLE, TWO, None, value)
 
     def test_nothing_is_raised_for_limits_of_use(self):
         account = tuple([("bill", 10 ** 45 + k, 10 ** 60) for k in range(50)]) + (("pay", -10 ** 45, 10 ** 59),)
         self.assertEqual(layings.laid(account, OLDEST), [(0, 50, 10 ** 59)])
         self.assertEqual(days.owed(account, 10 ** 46), 50 * 10 ** 60 - 10 ** 59)
         self.assertEqual(len(days.aged(account, OLDEST, 10 ** 45, tuple(range(60)))), 61)
+        laying = layings.laid(account, OLDEST)
+        self.assertEqual(charges.cost(account, laying, ("late", 10 ** 50)), 0)
+        self.assertEqual(tariffs.charge((10 ** 50, tuple([(k, 10 ** 50) for k in range(30)])), 0), 0)
+        self.assertEqual(tariffs.cheaper(account, laying, (1, ())), None)
+        self.assertEqual(orders.order_range(account, 3, 50), (0, 10 ** 59))
+        rough = (("pay", -10 ** 45, 1, 10 ** 60),) + (("bill", 10 ** 45, 1, 10 ** 60),) * 50
+        self.assertEqual(roughs.pair_range(rough, 50, 0), (0, 10 ** 60 - 49))
 
 
 if __name__ == "__main__":
