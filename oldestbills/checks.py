@@ -25,7 +25,7 @@ def is_integer(value):
 
 def is_sum(value):
     """Whether a value is an integer from 1 on."""
-    return is_integer(value) and value >= 1
+    return isinstance(value, int) and not isinstance(value, bool) and value >= 1
 
 
 def is_ascending(rows):
@@ -35,21 +35,20 @@ def is_ascending(rows):
 
 def has_entry_form(value):
     """Whether a value is an entry, as far as it can be told without the account."""
-    if type(value) != tuple or len(value) == 0:
+    # Each call looks at all entries of its accounts, so the lengths that come most often are first.
+    if type(value) != tuple:
         return False
-    if value[0] == "struck":
-        return len(value) == 1
-    if value[0] == "named":
-        return len(value) == 4 and is_integer(value[1]) and is_sum(value[2]) and is_integer(value[3])
-    if value[0] == "bill" or value[0] == "pay":
-        return len(value) == 3 and is_integer(value[1]) and is_sum(value[2])
-    return False
+    if len(value) == 3:
+        word, day, much = value
+        return (word == "bill" or word == "pay") and is_integer(day) and is_sum(much)
+    if len(value) == 4:
+        word, day, much, bill = value
+        return word == "named" and is_integer(day) and is_sum(much) and is_integer(bill)
+    return len(value) == 1 and value[0] == "struck"
 
 
 def names_its_bill(entries, entry):
-    """Whether an entry names no bill, or a bill of these entries that is not of a later day."""
-    if entry[0] != "named":
-        return True
+    """Whether the bill that a payment names is a bill of these entries, of no later day."""
     return is_bill_index(entries, entry[3]) and entries[entry[3]][1] <= entry[1]
 
 
@@ -57,7 +56,7 @@ def fits_account(value):
     """Whether any value is an account."""
     if type(value) != tuple or not all([has_entry_form(entry) for entry in value]):
         return False
-    return all([names_its_bill(value, entry) for entry in value])
+    return all([names_its_bill(value, entry) for entry in value if entry[0] == "named"])
 
 
 def fits_manner(value):

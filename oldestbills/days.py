@@ -6,30 +6,37 @@ from oldestbills.checks import check_day
 from oldestbills.checks import check_days_manner
 from oldestbills.checks import check_edges
 from oldestbills.checks import check_manner
-from oldestbills.entries import as_of
-from oldestbills.entries import bills_of
-from oldestbills.entries import line
-from oldestbills.entries import payments_of
-from oldestbills.layings import opens
-from oldestbills.layings import payers
+from oldestbills.entries import past_of
+from oldestbills.layings import open_rows
+from oldestbills.layings import payers_of
 
 
 def owed(account, day):
     """The sum of the open sums as of a day."""
-    return max(0, billed_less_paid(account, day))
+    check_account(account)
+    check_day(day)
+    return max(0, balance_as_of(account, day))
 
 
 def waiting(account, day):
     """The sum of the waiting sums as of a day."""
-    return max(0, -billed_less_paid(account, day))
+    check_account(account)
+    check_day(day)
+    return max(0, -balance_as_of(account, day))
 
 
-def billed_less_paid(account, day):
+def balance_as_of(account, day):
     """What the bills as of a day add up to, less what the payments do."""
     # No bill is open while money waits, so the difference alone tells both.
-    past = as_of(account, day)
-    billed = sum([past[bill][2] for bill in bills_of(past)])
-    return billed - sum([past[payment][2] for payment in payments_of(past)])
+    billed = paid = 0
+    for entry in account:
+        if entry[0] == "struck" or entry[1] > day:
+            continue
+        if entry[0] == "bill":
+            billed = billed + entry[2]
+        else:
+            paid = paid + entry[2]
+    return billed - paid
 
 
 def statement(account, manner, day):
@@ -37,8 +44,12 @@ def statement(account, manner, day):
     check_account(account)
     check_manner(manner)
     check_day(day)
-    past = as_of(account, day)
-    return [(bill, much) for bill, much in zip(bills_of(past), opens(past, manner)) if much > 0]
+    return open_as_of(account, manner, day)
+
+
+def open_as_of(account, manner, day):
+    """The statement of an account that was checked already."""
+    return [(bill, much) for bill, much in open_rows(past_of(account, day), manner) if much > 0]
 
 
 def paid_day(account, manner, bill):
@@ -46,7 +57,7 @@ def paid_day(account, manner, bill):
     check_account(account)
     check_days_manner(manner)
     check_bill(account, bill)
-    rows = payers(account, manner, bill)
+    rows = payers_of(account, manner, bill)
     if sum([much for payment, much in rows]) < account[bill][2]:
         return None
     # Along the line what is laid stays laid, so the last payer closes the bill.
@@ -60,7 +71,7 @@ def aged(account, manner, day, edges):
     check_day(day)
     check_edges(edges)
     sums = [0 for _ in range(len(edges) + 1)]
-    for bill, much in statement(account, manner, day):
+    for bill, much in open_as_of(account, manner, day):
         age = day - account[bill][1]
         at = len([edge for edge in edges if edge <= age])
         sums[at] = sums[at] + much
@@ -70,14 +81,26 @@ def aged(account, manner, day, edges):
 def owed_days(account):
     """The tuples (day, owed) of the days on which another sum is owed than on the day before."""
     check_account(account)
+    changes = changes_of(account)
     rows = []
-    before = 0
-    for day in days_of(account):
-        now = owed(account, day)
-        if now != before:
-            rows.append((day, now))
-        before = now
+    balance = 0
+    for day in sorted(changes):
+        before = max(0, balance)
+        balance = balance + changes[day]
+        if max(0, balance) != before:
+            rows.append((day, max(0, balance)))
     return rows
+
+
+def changes_of(account):
+    """By how much the bills less the payments of each day of entries come to more."""
+    changes = {}
+    for entry in account:
+        if entry[0] == "bill":
+            changes[entry[1]] = changes.get(entry[1], 0) + entry[2]
+        elif entry[0] != "struck":
+            changes[entry[1]] = changes.get(entry[1], 0) - entry[2]
+    return changes
 
 
 def never_more(account, other_account):
@@ -89,13 +112,13 @@ def more_day(account, other_account):
     """The least day on which the first account owes more, None if there is none."""
     check_account(account)
     check_account(other_account)
+    changes = changes_of(account)
+    other_changes = changes_of(other_account)
+    balance = other_balance = 0
     # What is owed is another sum only on days of entries.
-    for day in sorted(set(days_of(account) + days_of(other_account))):
-        if owed(account, day) > owed(other_account, day):
+    for day in sorted(set(list(changes) + list(other_changes))):
+        balance = balance + changes.get(day, 0)
+        other_balance = other_balance + other_changes.get(day, 0)
+        if balance > max(0, other_balance):
             return day
     return None
-
-
-def days_of(account):
-    """The days of the entries that are not struck, ascending, each once."""
-    return sorted(set([account[index][1] for index in line(account)]))

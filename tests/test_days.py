@@ -1,7 +1,10 @@
 """[5], [13]: what is owed and what waits on each day."""
 
+import sys
 import unittest
+import unittest.mock
 
+from oldestbills import checks
 from oldestbills.days import aged
 from oldestbills.days import more_day
 from oldestbills.days import never_more
@@ -201,6 +204,106 @@ class ComparedTest(unittest.TestCase):
         for call in (never_more, more_day):
             self.assertRaises(InvalidAccount, call, None, ())
             self.assertRaises(InvalidAccount, call, MIXED, [])
+
+
+def days_about(*accounts):
+    """Each day of the accounts' entries, one less and one more."""
+    days = {entry[1] for account in accounts for entry in account if entry[0] != "struck"}
+    return sorted({day + step for day in days for step in (-1, 0, 1)})
+
+
+def drawn_accounts():
+    """Accounts of up to 40 entries: few days and many, small sums and great ones, most of them with named payments."""
+    for seed in range(160):
+        days, most = (1, 3, 12, 60, 2000000)[seed % 5], (1, 3, 9, HUGE_SUM)[seed % 4]
+        yield any_account(seed, seed % 41, days, most)
+
+
+def alternating(many):
+    """Bill and pay in turn, each on a day of its own."""
+    return tuple([("bill", d, d % 7 + 1) if d % 2 == 0 else ("pay", d, d % 5 + 1) for d in range(many)])
+
+
+def steps_of(call, *arguments):
+    """How many functions a call calls in all, builtin ones too."""
+    events = []
+    sys.setprofile(lambda frame, event, more: events.append(event))
+    call(*arguments)
+    sys.setprofile(None)
+    return len([event for event in events if event in ("call", "c_call")])
+
+
+class DrawnAccountsTest(unittest.TestCase):
+    def test_the_drawn_accounts_have_all_that_is_to_be_tested(self):
+        accounts = list(drawn_accounts())
+        self.assertEqual(max(map(len, accounts)), 40)
+        for word in ("named", "struck"):
+            self.assertGreater(len([1 for account in accounts if word in [entry[0] for entry in account]]), 100)
+        self.assertGreater(len([1 for account in accounts if len(account) > 3 * len(days_about(account))]), 20)
+
+    def test_owed_days_against_each_day(self):
+        for account in drawn_accounts():
+            told = [
+                (day, owed(account, day)) for day in days_about(account) if owed(account, day) != owed(account, day - 1)
+            ]
+            self.assertEqual(owed_days(account), told)
+
+    def test_owed_and_waiting_against_the_sums_of_the_entries(self):
+        for account in drawn_accounts():
+            for day in days_about(account):
+                past = [entry for entry in account if entry[0] != "struck" and entry[1] <= day]
+                balance = sum([entry[2] if entry[0] == "bill" else -entry[2] for entry in past])
+                self.assertEqual((owed(account, day), waiting(account, day)), (max(0, balance), max(0, -balance)))
+
+    def test_more_day_and_never_more_against_each_day(self):
+        accounts = list(drawn_accounts())
+        found = []
+        for step in (0, 1, 4, 5, 20, 33):
+            for one, two in zip(accounts, accounts[step:]):
+                days = [day for day in days_about(one, two) if owed(one, day) > owed(two, day)]
+                self.assertEqual(more_day(one, two), min(days, default=None))
+                self.assertIs(never_more(one, two), days == [])
+                found.append(days == [])
+        self.assertGreater(found.count(True), 50)
+        self.assertGreater(found.count(False), 50)
+
+    def test_an_account_that_owes_a_little_less_or_more(self):
+        for account in drawn_accounts():
+            for word, later in (("bill", 1), ("pay", 0)):
+                for day in days_about(account)[::5]:
+                    other = account + ((word, day, 1), ("bill" if word == "pay" else "pay", day + later, 1))
+                    days = [at for at in days_about(account, other) if owed(other, at) > owed(account, at)]
+                    self.assertEqual(more_day(other, account), min(days, default=None))
+                    self.assertIs(never_more(other, account), days == [])
+
+    def test_the_account_at_the_limit_of_use(self):
+        account = alternating(40)
+        told = [(day, owed(account, day)) for day in range(41) if owed(account, day) != owed(account, day - 1)]
+        self.assertEqual(owed_days(account), told)
+        self.assertIsNone(more_day(account, account))
+        self.assertEqual(more_day(account + (("bill", 39, 1),), account), 39)
+
+
+class LookedAtOnceTest(unittest.TestCase):
+    def test_each_account_is_looked_at_once(self):
+        account, other = MIXED, EXAMPLE
+        calls = (
+            (owed, account, 3), (waiting, account, 3), (statement, account, OLDEST, 3), (paid_day, account, OLDEST, 0),
+            (aged, account, OLDEST, 3, (1,)), (owed_days, account), (never_more, account, other), (more_day, account, other),
+        )
+        for call, *told in calls:
+            with unittest.mock.patch.object(checks, "fits_account", wraps=checks.fits_account) as looked:
+                call(*told)
+            looks = [looking.args[0] for looking in looked.call_args_list]
+            self.assertEqual(looks, [part for part in told if part in (account, other)], call.__name__)
+
+    def test_the_steps_grow_as_the_account_does(self):
+        for call, many in ((owed_days, 1), (more_day, 2), (never_more, 2)):
+            steps = [steps_of(call, *[alternating(size)] * many) for size in (40, 400)]
+            self.assertLess(steps[1], 12 * steps[0], call.__name__)
+        for call in (owed, waiting):
+            steps = [steps_of(call, alternating(size), size) for size in (40, 400)]
+            self.assertLess(steps[1], 12 * steps[0], call.__name__)
 
 
 if __name__ == "__main__":
