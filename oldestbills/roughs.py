@@ -127,7 +127,7 @@ def parts_with(billed, paid, gaps, much):
 
 def stretches_with(billed, paid, gaps, much):
     """The tuples (from, to) of the gaps with which a pair can have a sum from 1 on, one that it can have."""
-    # The bill less a gap above 0 and the payment plus one below 0: neither is less than the sum, one of both is it.
+    # The bill less a gap above 0, and the payment less one below 0: the lesser of both is the pair's sum.
     low = max(gaps[0], much - paid[3])
     high = min(gaps[1], billed[3] - much)
     if billed[2] <= much or paid[2] <= much:
@@ -176,7 +176,7 @@ def sharper(rough, bill, payment, sum_here):
 def own_range(entry, other, gaps, much):
     """The least and the greatest sum of the bill of a pair; with the gaps' signs turned those of its payment."""
     least = max(entry[2], much + max(0, gaps[0]))
-    # With the least sum of the other one and with this gap the pair has no more, however great the entry is.
+    # If the least sum of the other one and this gap leave no more than the sum, the entry may be as great as it can.
     if other[2] <= much + max(0, -gaps[0]):
         return least, entry[3]
     return least, min(entry[3], much + max(0, gaps[1]))
