@@ -4,6 +4,7 @@ from oldestbills.errors import InvalidAccount
 from oldestbills.errors import InvalidBill
 from oldestbills.errors import InvalidDay
 from oldestbills.errors import InvalidEdges
+from oldestbills.errors import InvalidEntry
 from oldestbills.errors import InvalidExchange
 from oldestbills.errors import InvalidIndex
 from oldestbills.errors import InvalidKind
@@ -33,6 +34,12 @@ def is_ascending(rows):
     return all([rows[k] < rows[k + 1] for k in range(len(rows) - 1)])
 
 
+def are_ascending_integers(rows):
+    """Whether the rows are integers, each less than the next one."""
+    # The kinds come first: values of unlike kinds cannot be compared.
+    return all([is_integer(row) for row in rows]) and is_ascending(rows)
+
+
 def has_entry_form(value):
     """Whether a value is an entry, as far as it can be told without the account."""
     # Each call looks at all entries of its accounts, so the lengths that come most often are first.
@@ -50,6 +57,11 @@ def has_entry_form(value):
 def names_its_bill(entries, entry):
     """Whether the bill that a payment names is a bill of these entries, of no later day."""
     return is_bill_index(entries, entry[3]) and entries[entry[3]][1] <= entry[1]
+
+
+def fits_entry(account, value):
+    """Whether any value is an entry that makes an account when it is put behind the others."""
+    return has_entry_form(value) and (value[0] != "named" or names_its_bill(account, value))
 
 
 def fits_account(value):
@@ -224,6 +236,12 @@ def check_index(account, index):
         raise InvalidIndex("not the index of an entry that is not struck")
 
 
+def check_entry(account, entry):
+    """InvalidEntry unless it is an entry that can be put behind the others."""
+    if not fits_entry(account, entry):
+        raise InvalidEntry("not an entry that can be put behind the others")
+
+
 def check_bill(account, bill):
     """InvalidBill unless it is the index of a bill."""
     if not is_bill_index(account, bill):
@@ -238,11 +256,8 @@ def check_payment(account, payment):
 
 def check_edges(edges):
     """InvalidEdges unless it is an ascending tuple of integers."""
-    # The kinds come first: values of unlike kinds cannot be compared.
-    if type(edges) != tuple or not all([is_integer(edge) for edge in edges]):
-        raise InvalidEdges("not a tuple of integers")
-    if not is_ascending(edges):
-        raise InvalidEdges("not ascending")
+    if type(edges) != tuple or not are_ascending_integers(edges):
+        raise InvalidEdges("not an ascending tuple of integers")
 
 
 def check_laying(account, laying):

@@ -39,6 +39,11 @@ def balance_as_of(account, day):
     return billed - paid
 
 
+def balance_of(account):
+    """What all bills add up to, less what all payments do."""
+    return sum(list(changes_of(account).values()))
+
+
 def statement(account, manner, day):
     """The tuples (bill, open sum) of the bills that are open as of the day, along the line."""
     check_account(account)

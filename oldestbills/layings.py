@@ -177,6 +177,11 @@ def moved(account, other_account, manner):
     check_account(account)
     check_account(other_account)
     check_manner(manner)
+    return moved_rows(account, other_account, manner)
+
+
+def moved_rows(account, other_account, manner):
+    """The pairs that move between two accounts that were checked already."""
     before = {(bill, payment): much for bill, payment, much in laid_by(account, manner)}
     after = {(bill, payment): much for bill, payment, much in laid_by(other_account, manner)}
     pairs = sorted(set(list(before) + list(after)))

@@ -5,23 +5,34 @@ import inspect
 import unittest
 
 from oldestbills import charges
+from oldestbills import closings
 from oldestbills import days
 from oldestbills import entries
 from oldestbills import errors
+from oldestbills import latecomers
 from oldestbills import layings
 from oldestbills import orders
 from oldestbills import roughs
+from oldestbills import shows
+from oldestbills import standing
 from oldestbills import tariffs
+from tests.calls import CALLS
+from tests.calls import EXCHANGE
+from tests.calls import HOMES
+from tests.calls import spoiled
+from tests.calls import wrong_for
 from tests.helpers import EXAMPLE
 from tests.helpers import MIXED
 from tests.helpers import ODD
 from tests.helpers import ODD_ACCOUNTS
-from tests.helpers import ODD_DAYS
-from tests.helpers import ODD_EDGES
 from tests.helpers import ODD_MANNERS
-from tests.helpers import ODD_SUMS
 from tests.helpers import OLDEST
-from tests.helpers import odd_indexes
+from tests.kinds import BILLS
+from tests.kinds import HISTORY
+from tests.kinds import ODD_HISTORIES
+from tests.kinds import ODD_SHOWS
+from tests.kinds import ODD_STANDINGS
+from tests.kinds import STANDING
 from tests.samples import LEAST
 from tests.samples import ODD_EXCHANGES
 from tests.samples import ODD_KINDS
@@ -30,128 +41,8 @@ from tests.samples import ODD_ORDERS
 from tests.samples import ODD_ROUGHS
 from tests.samples import ODD_TARIFFS
 from tests.samples import ONE as LAYING
-from tests.samples import ROUGH
 from tests.samples import TARIFF
 from tests.samples import TWO
-
-LATE = ("late", 1)
-EXCHANGE = (0, 2, 1, 3, 4)
-
-# Each function of the interface with one call of it, by names in the order of the signature.
-CALLS = (
-    (entries.is_account, {"value": MIXED}),
-    (entries.is_manner, {"value": OLDEST}),
-    (entries.line, {"account": MIXED}),
-    (entries.bills_of, {"account": MIXED}),
-    (entries.payments_of, {"account": MIXED}),
-    (entries.as_of, {"account": MIXED, "day": 3}),
-    (entries.struck, {"account": MIXED, "index": 6}),
-    (entries.changed, {"account": MIXED, "index": 4, "day": 5, "sum_here": 6}),
-    (entries.joined, {"account": EXAMPLE, "other_account": MIXED}),
-    (layings.is_laying, {"account": EXAMPLE, "value": LAYING}),
-    (layings.laid, {"account": MIXED, "manner": OLDEST}),
-    (layings.opens, {"account": MIXED, "manner": OLDEST}),
-    (layings.waits, {"account": MIXED, "manner": OLDEST}),
-    (layings.overlaps, {"plain": EXAMPLE}),
-    (layings.payers, {"account": MIXED, "manner": OLDEST, "bill": 0}),
-    (layings.paid_by, {"account": MIXED, "manner": OLDEST, "payment": 1}),
-    (layings.moved, {"account": MIXED, "other_account": EXAMPLE, "manner": OLDEST}),
-    (days.owed, {"account": MIXED, "day": 3}),
-    (days.waiting, {"account": MIXED, "day": 3}),
-    (days.statement, {"account": MIXED, "manner": OLDEST, "day": 3}),
-    (days.paid_day, {"account": MIXED, "manner": OLDEST, "bill": 0}),
-    (days.aged, {"account": MIXED, "manner": OLDEST, "day": 3, "edges": (1, 2)}),
-    (days.owed_days, {"account": MIXED}),
-    (days.never_more, {"account": MIXED, "other_account": EXAMPLE}),
-    (days.more_day, {"account": MIXED, "other_account": EXAMPLE}),
-    (charges.cost, {"account": EXAMPLE, "laying": TWO, "kind": LATE}),
-    (charges.cheapest, {"plain": EXAMPLE, "laying": TWO}),
-    (charges.dearest, {"plain": EXAMPLE, "laying": TWO}),
-    (charges.dunned, {"account": MIXED, "manner": OLDEST, "after": 2}),
-    (charges.spread, {"plain": EXAMPLE, "laying": TWO, "kind": LATE}),
-    (tariffs.is_tariff, {"value": TARIFF}),
-    (tariffs.charge, {"tariff": TARIFF, "delay": 3}),
-    (tariffs.tariff_cost, {"account": EXAMPLE, "laying": TWO, "tariff": TARIFF}),
-    (tariffs.cost_line, {"account": EXAMPLE, "laying": TWO}),
-    (tariffs.akin, {"account": EXAMPLE, "laying": TWO, "other_laying": LAYING}),
-    (tariffs.never_dearer, {"plain": EXAMPLE, "laying": TWO, "other_laying": LAYING}),
-    (tariffs.dearer_grace, {"plain": EXAMPLE, "laying": TWO, "other_laying": LAYING}),
-    (tariffs.crossings, {"plain": EXAMPLE, "laying": TWO}),
-    (tariffs.exchanged, {"plain": EXAMPLE, "laying": TWO, "exchange": EXCHANGE}),
-    (tariffs.exchanges, {"plain": EXAMPLE, "laying": TWO}),
-    (tariffs.judge_exchanges, {"plain": EXAMPLE, "laying": TWO, "value": [EXCHANGE]}),
-    (tariffs.prices, {"plain": EXAMPLE, "laying": LAYING, "tariff": TARIFF}),
-    (tariffs.judge_prices, {"plain": EXAMPLE, "laying": LAYING, "tariff": TARIFF, "value": ([0, 1], [2, 3])}),
-    (tariffs.cheaper, {"plain": EXAMPLE, "laying": TWO, "tariff": TARIFF}),
-    (roughs.is_rough, {"value": ROUGH}),
-    (roughs.pair_range, {"rough": ROUGH, "bill": 1, "payment": 2}),
-    (roughs.sure_pairs, {"rough": ROUGH}),
-    (roughs.possible_pairs, {"rough": ROUGH}),
-    (roughs.open_range, {"rough": ROUGH, "bill": 1}),
-    (roughs.owed_range, {"rough": ROUGH, "day": 2}),
-    (roughs.with_pair, {"rough": ROUGH, "bill": 1, "payment": 2, "sum_here": 0}),
-    (roughs.sharper, {"rough": ROUGH, "bill": 1, "payment": 2, "sum_here": 3}),
-    (orders.entered_so, {"account": EXAMPLE, "order": (2, 1, 0, 3)}),
-    (orders.pairs_in, {"plain": EXAMPLE, "order": (2, 1, 0, 3)}),
-    (orders.order_range, {"plain": EXAMPLE, "bill": 0, "payment": 2}),
-    (orders.least_order, {"plain": EXAMPLE, "bill": 0, "payment": 2}),
-    (orders.greatest_order, {"plain": EXAMPLE, "bill": 0, "payment": 2}),
-    (orders.sure_in_any, {"plain": EXAMPLE}),
-    (orders.same_in_any, {"plain": (("bill", 1, 5), ("pay", 2, 3))}),
-    (orders.order_counts, {"plain": EXAMPLE}),
-    (orders.order_reason, {"plain": (("bill", 1, 5), ("pay", 2, 3))}),
-    (orders.two_orders, {"plain": EXAMPLE}),
-    (orders.parting, {"manner": OLDEST, "other_manner": ("entered", "newest")}),
-)
-
-HOMES = {
-    "entries": entries, "layings": layings, "days": days, "charges": charges, "tariffs": tariffs, "roughs": roughs,
-    "orders": orders,
-}
-
-TABLE = {
-    "account": (errors.InvalidAccount, ODD_ACCOUNTS),
-    "other_account": (errors.InvalidAccount, ODD_ACCOUNTS),
-    "plain": (errors.InvalidAccount, ODD_ACCOUNTS + (MIXED,)),
-    "rough": (errors.InvalidRough, [value for value in ODD_ROUGHS if value != ()]),
-    "manner": (errors.InvalidManner, ODD_MANNERS),
-    "other_manner": (errors.InvalidManner, ODD_MANNERS),
-    "day": (errors.InvalidDay, ODD_DAYS),
-    "delay": (errors.InvalidDay, ODD_DAYS),
-    "after": (errors.InvalidDay, ODD_DAYS + (-1, -10 ** 39)),
-    "sum_here": (errors.InvalidSum, ODD_SUMS),
-    "edges": (errors.InvalidEdges, ODD_EDGES),
-    "laying": (errors.InvalidLaying, ODD_LAYINGS),
-    "other_laying": (errors.InvalidLaying, ODD_LAYINGS),
-    "kind": (errors.InvalidKind, ODD_KINDS),
-    "tariff": (errors.InvalidTariff, ODD_TARIFFS),
-    "exchange": (errors.InvalidExchange, ODD_EXCHANGES),
-    "order": (errors.InvalidIndex, ODD_ORDERS),
-}
-WORDS = {
-    "index": (errors.InvalidIndex, ("bill", "pay", "named")),
-    "bill": (errors.InvalidBill, ("bill",)),
-    "payment": (errors.InvalidPayment, ("pay", "named")),
-}
-
-
-def wrong_for(call, told, name):
-    """The error of the table for a parameter of a call, and the values that it is raised for."""
-    if name in WORDS:
-        error, words = WORDS[name]
-        return error, odd_indexes(list(told.values())[0], words)
-    error, wrong = TABLE[name]
-    # In with_pair the sum may be 0.
-    return error, [value for value in wrong if call != roughs.with_pair or type(value) is not int or value != 0]
-
-
-def spoiled(value):
-    """Changes each list of an answer, also the ones inside."""
-    if isinstance(value, (list, tuple)):
-        for part in value:
-            spoiled(part)
-    if isinstance(value, list):
-        value.append("spoiled")
 
 
 class ConventionsTest(unittest.TestCase):
@@ -162,7 +53,11 @@ class ConventionsTest(unittest.TestCase):
             " dunned spread is_tariff charge tariff_cost cost_line akin never_dearer dearer_grace crossings exchanged"
             " exchanges judge_exchanges prices judge_prices cheaper is_rough pair_range sure_pairs possible_pairs open_range"
             " owed_range with_pair sharper entered_so pairs_in order_range least_order greatest_order sure_in_any same_in_any"
-            " order_counts order_reason two_orders parting"
+            " order_counts order_reason two_orders parting late_range firm late_for late_open_range fixed_pairs moved_by"
+            " is_shows show_bar paid_ranges between_ranges payments_for shows_of is_standing rise owed_on waiting_on until"
+            " bill_at payment_at pair_of payers_between paid_off always_within first_late rooms worst_wait greatest_owed"
+            " clear_from unlike_day least_payment is_history true_account journal origins closed_day reports late_days"
+            " moved_entries balance least_account same_balance closings_back counts_back first_count"
         )
         self.assertEqual([call.__name__ for call, _ in CALLS], listed.split())
 
@@ -195,6 +90,9 @@ class ConventionsTest(unittest.TestCase):
         tariffs.judge_exchanges(EXAMPLE, TWO, value)
         tariffs.judge_prices(EXAMPLE, TWO, TARIFF, (value, value))
         roughs.is_rough(value)
+        shows.is_shows(BILLS, value)
+        standing.is_standing(value)
+        closings.is_history(value)
         self.assertEqual(value, before)
 
     def test_lists_are_new(self):
@@ -209,12 +107,19 @@ class ConventionsTest(unittest.TestCase):
         tuples = (
             "as_of", "struck", "changed", "joined", "spread", "prices", "pair_range", "open_range", "owed_range",
             "with_pair", "entered_so", "order_range", "least_order", "greatest_order", "order_reason", "two_orders",
-            "parting",
+            "parting", "late_range", "late_for", "late_open_range", "show_bar", "payments_for", "shows_of", "rise", "until",
+            "bill_at", "payment_at", "payers_between", "worst_wait", "greatest_owed", "true_account", "journal",
+            "least_account", "closings_back",
         )
-        numbers = ("owed", "waiting", "paid_day", "more_day", "cost", "charge", "tariff_cost", "dearer_grace")
+        numbers = (
+            "owed", "waiting", "paid_day", "more_day", "cost", "charge", "tariff_cost", "dearer_grace", "firm", "owed_on",
+            "waiting_on", "pair_of", "paid_off", "first_late", "clear_from", "unlike_day", "least_payment", "closed_day",
+            "balance", "first_count",
+        )
         told_so = (
             "is_account", "is_manner", "is_laying", "never_more", "is_tariff", "akin", "never_dearer", "judge_exchanges",
-            "judge_prices", "is_rough", "order_counts",
+            "judge_prices", "is_rough", "order_counts", "is_shows", "is_standing", "always_within", "is_history",
+            "same_balance",
         )
         for call, told in CALLS:
             kinds = [(tuple, tuples), (int, numbers), (bool, told_so)]
@@ -273,6 +178,7 @@ class ConventionsTest(unittest.TestCase):
 
     def test_what_tells_whether_is_true_or_false_for_any_value(self):
         odd = [ODD_ACCOUNTS, ODD_MANNERS, ODD_LAYINGS, ODD_KINDS, ODD_TARIFFS, ODD_EXCHANGES, ODD_ORDERS, ODD_ROUGHS]
+        odd += [ODD_SHOWS, ODD_STANDINGS, ODD_HISTORIES]
         for value in [value for values in odd for value in values]:
             self.assertIs(type(entries.is_account(value)), bool)
             self.assertIs(type(entries.is_manner(value)), bool)
@@ -281,6 +187,9 @@ class ConventionsTest(unittest.TestCase):
             self.assertIs(type(tariffs.judge_exchanges(EXAMPLE, TWO, value)), bool)
             self.assertIs(type(tariffs.judge_prices(EXAMPLE, TWO, TARIFF, value)), bool)
             self.assertIs(type(roughs.is_rough(value)), bool)
+            self.assertIs(type(shows.is_shows(BILLS, value)), bool)
+            self.assertIs(type(standing.is_standing(value)), bool)
+            self.assertIs(type(closings.is_history(value)), bool)
 
     def test_a_wrong_account_or_laying_is_told_ahead_of_any_value_that_is_judged(self):
         for value in (None, [EXCHANGE], ([0, 1], [2, 3])):

@@ -15,6 +15,7 @@ BARRED = set(
     "register mro elements open input law version_info with_traceback add_note eval exec globals locals vars dir id"
     " compile breakpoint exit quit help hash filter round float complex slice bytearray memoryview callable".split()
 )
+METHODS = set("__init__ __eq__ __ne__ __len__ __call__ __iter__ __contains__ __getitem__ __add__ __neg__".split())
 DECORATORS = r"^(property|staticmethod|classmethod|[a-z_]+\.setter)$"
 LIBRARY = ("heapq", "math", "itertools", "collections")
 WORDS = ("typing", "enum", "Enum", "Flag", "Generic", "Protocol", "ABC", "namedtuple", "dataclass", "overload")
@@ -88,8 +89,9 @@ class LanguageTest(unittest.TestCase):
     def test_names(self):
         for name, word in names():
             self.assertNotIn(word, BARRED, name)
-            if word != "__init__":
-                self.assertRegex(word, r"^[A-Za-z][A-Za-z0-9_]*$|^_$", name)
+            if word not in METHODS:
+                self.assertRegex(word, r"^_?[A-Za-z][A-Za-z0-9_]*$|^_$", name)
+                self.assertIsNone(re.match(r"_(wall|pe_|dcw_|enum_|cm_|twin_re_|lay_|law_|stub_|sre|cold|record|outside)", word))
 
     def test_no_name_has_another_meaning_than_a_builtin_or_an_import(self):
         for path, tree in trees():
@@ -105,6 +107,34 @@ class LanguageTest(unittest.TestCase):
             if isinstance(node.value, str):
                 self.assertNotIn("%", node.value, name)
                 self.assertIsNone(re.search(r"\b(" + "|".join(WORDS) + r")\b", node.value), name)
+
+    def test_nothing_that_a_package_with_operators_may_not_have(self):
+        self.assertEqual(nodes(ast.GeneratorExp, ast.AugAssign, ast.Yield, ast.YieldFrom, ast.Match, ast.Global), [])
+        for name, node in nodes(ast.Attribute):
+            self.assertNotIn(node.attr, ("sort", "keys", "format"), name)
+        for name, node in nodes(ast.Call):
+            if isinstance(node.func, ast.Name) and node.func.id in ("reversed", "iter", "next", "map", "getattr", "setattr"):
+                self.fail((name, node.lineno))
+
+    def test_errors_that_are_caught(self):
+        caught = [ast.unparse(node.type) for name, node in nodes(ast.ExceptHandler)]
+        self.assertLessEqual(set(caught), {"InvalidWords"})
+
+    def test_classes(self):
+        for name, node in nodes(ast.ClassDef):
+            methods = [row.name for row in node.body if isinstance(row, ast.FunctionDef)]
+            self.assertEqual(len(methods), len(set(methods)), (name, node.name))
+            if "__getitem__" in methods:
+                self.assertIn("__iter__", methods)
+        told = [ast.unparse(node.value) for name, node in nodes(ast.Attribute) if "super" in ast.unparse(node)]
+        self.assertLessEqual(set(told), {"super()"})
+
+    def test_what_tells_a_length_or_equality_is_one_return(self):
+        for name, node in nodes(ast.FunctionDef):
+            if node.name in ("__len__", "__eq__", "__ne__"):
+                self.assertEqual([type(row) for row in node.body if not isinstance(row, ast.Expr)], [ast.Return])
+            if node.name == "__len__":
+                self.assertRegex(ast.unparse(node.body[-1]), r"^return len\(")
 
     def test_kinds_are_asked_beside_a_class_alone(self):
         for path, tree in trees():
