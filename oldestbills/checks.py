@@ -133,7 +133,7 @@ def fits_kind(value):
     return len(value) == 1 and (value[0] == "apart" or value[0] == "squares")
 
 
-def is_corner(value):
+def is_integer_and_sum(value):
     """Whether any value is a tuple of an integer and an integer from 1 on."""
     return type(value) == tuple and len(value) == 2 and is_integer(value[0]) and is_sum(value[1])
 
@@ -142,7 +142,7 @@ def fits_tariff(value):
     """Whether any value is a tariff."""
     if type(value) != tuple or len(value) != 2 or not is_integer(value[0]) or type(value[1]) != tuple:
         return False
-    return all([is_corner(corner) for corner in value[1]]) and is_ascending([at for at, more in value[1]])
+    return all([is_integer_and_sum(row) for row in value[1]]) and is_ascending([at for at, more in value[1]])
 
 
 def fits_exchange(plain, sums, value):

@@ -241,6 +241,7 @@ class UnlikeDayTest(unittest.TestCase):
         self.assertIsNone(unlike_day((("bill", -4, 3, 2),), (("bill", -4, 6, 2), ("bill", -1, 6, 2))))
         self.assertEqual(unlike_day((("bill", -4, 3, 2),), (("bill", -4, 6, 2), ("bill", -1, 6, 3))), -1)
         self.assertEqual(unlike_day((("bill", 0, 2, 2),), (("bill", 0, 2, 2), ("pay", 399, 400, 1))), 399)
+        self.assertEqual(unlike_day((("bill", 0, 2, 1), ("pay", 1, 2, 1)), (("bill", 2, 2, 1), ("pay", 3, 2, 1))), 0)
         halves = (("bill", 0, 4, 2), ("bill", 2, 4, 2), ("pay", 400, 3, 1), ("bill", 400, 3, 1))
         self.assertIsNone(unlike_day((("bill", 0, 2, 2),), halves))
 

@@ -81,7 +81,9 @@ class LanguageTest(unittest.TestCase):
             self.assertEqual((node.level, node.module.split(".")[0]), (0, "oldestbills"), name)
             home = PACKAGE / (node.module.split(".")[1] + ".py")
             self.assertTrue(home.exists(), (name, node.module))
-            defined = [row.name for row in ast.parse(home.read_text()).body if hasattr(row, "name")]
+            rows = ast.parse(home.read_text()).body
+            defined = [row.name for row in rows if hasattr(row, "name")]
+            defined += [target.id for row in rows if isinstance(row, ast.Assign) for target in row.targets]
             for alias in node.names:
                 self.assertIsNone(alias.asname)
                 self.assertIn(alias.name, defined, name)

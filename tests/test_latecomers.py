@@ -145,7 +145,7 @@ class FirmTest(unittest.TestCase):
                         sure[pair] = many
             for pair in sure:
                 found = firm(plain, *pair)
-                self.assertEqual(sure[pair], -1 if found is None else min(most, found), (plain, pair))
+                self.assertEqual(None if sure[pair] < 0 else sure[pair], found if found is None else min(most, found))
                 told.add(found)
         self.assertLessEqual({None, 0, 1, 2}, told)
 
